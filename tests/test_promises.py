@@ -1,0 +1,115 @@
+"""What holds for all functions: what's handed in stays, by place and by name, values of the told kinds. [2]"""
+
+import inspect
+import unittest
+
+from brookworks import looks, nums, programs, terms, texts
+from tests.helpers import A, BIG, BIG_TEXT, ONE, X, Y, halves
+
+# Of each function its arguments as the document writes them, and something to hand in.
+ASKED = {
+    nums: {
+        "num_of": ("number, parts=1", (6, 4)),
+        "sum_of": ("one, other", (ONE, ONE)),
+        "less_of": ("one, other", (ONE, ONE)),
+        "times_of": ("one, other", (ONE, ONE)),
+        "is_below": ("one, other", (ONE, ONE)),
+        "least_num": ("some", ([(2, 1), (1, 2), (3, 1)],)),
+        "most_num": ("some", ([(2, 1), (1, 2), (3, 1)],)),
+        "figures_of": ("one", (ONE,)),
+        "cut_of": ("one, figures", ((3, 4), 1)),
+        "is_num": ("thing", ([1, [2, [3]]],)),
+        "num_text": ("one", ((3, 4),)),
+        "num_in": ("text", ("-3/4",)),
+    },
+    terms: {
+        "is_term": ("thing", (["sum", ["name", "a"]],)),
+        "paths_of": ("term", (("sum", X, Y),)),
+        "part_at": ("term, path", (("sum", X, Y), (0,))),
+        "put_at": ("term, path, other", (("sum", X, Y), (0,), A)),
+        "parts_of": ("term", (("sum", X, Y),)),
+        "deep_of": ("term", (halves(3, X),)),
+        "names_in": ("term", (("sum", X, Y),)),
+    },
+    programs: {
+        "is_program": ("thing", ([[["x", 1]], [["a", X]], ["a"]],)),
+        "term_of": ("program, name", (BIG, "acc")),
+        "places_of": ("program", (BIG,)),
+        "uses_of": ("program, name, *, now=False", (BIG, "acc")),
+        "with_brook": ("program, name, term", (BIG, "new", X)),
+        "without": ("program, name", (BIG, "acc")),
+    },
+    texts: {
+        "term_text": ("term", (("sum", X, Y),)),
+        "term_in": ("text", ("sum x y",)),
+        "program_text": ("program", (BIG,)),
+        "program_in": ("text", (BIG_TEXT,)),
+    },
+    looks: {
+        "rules_of": ("program", (BIG,)),
+        "look": ("program", (BIG,)),
+        "periods_of": ("program", (BIG,)),
+    },
+}
+
+
+class Promises(unittest.TestCase):
+    def each(self):
+        for module, functions in ASKED.items():
+            for name, (written, handed) in functions.items():
+                with self.subTest(name):
+                    yield getattr(module, name), written, handed
+
+    def test_arguments_are_as_written(self):
+        for function, written, _ in self.each():
+            self.assertEqual(str(inspect.signature(function)), f"({written})")
+
+    def test_each_is_defined_where_the_interface_lists_it(self):
+        for module, functions in ASKED.items():
+            for name in functions:
+                self.assertEqual(getattr(module, name).__module__, module.__name__)
+
+    def test_by_place_and_by_name(self):
+        for function, _, handed in self.each():
+            names = list(inspect.signature(function).parameters)
+            self.assertEqual(function(*handed), function(**dict(zip(names, handed))))
+
+    def test_what_is_handed_in_stays(self):
+        for function, _, handed in self.each():
+            kept = repr(handed)
+            function(*handed)
+            self.assertEqual(repr(handed), kept)
+
+    def test_the_same_question_is_told_the_same(self):
+        for function, _, handed in self.each():
+            told, again = function(*handed), function(*handed)
+            self.assertEqual(repr(told), repr(again))
+            if isinstance(told, list):
+                self.assertIsNot(told, again)
+                told.reverse()
+                told.append(None)
+                self.assertEqual(function(*handed), again)
+
+    def test_whether_is_told_by_true_or_false(self):
+        for name, function in [("is_below", None), *self.whethers()]:
+            if function is None:
+                self.assertIs(nums.is_below(ONE, ONE), False)
+                self.assertIs(nums.is_below((1, 2), ONE), True)
+                continue
+            for thing in [None, (), [], "", 0, ONE, X, BIG, (0, 1), (0, 2), ((), (), ()), [[]]]:
+                self.assertIn(repr(function(thing)), ("True", "False"), name)
+
+    def whethers(self):
+        return [("is_num", nums.is_num), ("is_term", terms.is_term), ("is_program", programs.is_program)]
+
+    def test_whole_numbers_are_told_as_such(self):
+        for told in [
+            *nums.num_of(6, 4), *nums.sum_of(ONE, ONE), nums.figures_of(ONE), terms.parts_of(X), terms.deep_of(X),
+            *nums.num_in("1/2"), *[period for _, period in looks.look(BIG)],
+            *[power for _, _, power in looks.rules_of(BIG)],
+        ]:
+            self.assertIs(type(told), int)
+
+
+if __name__ == "__main__":
+    unittest.main()
