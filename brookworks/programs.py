@@ -88,6 +88,19 @@ def uses_of(program, name, *, now=False):
     return names_now(term) if now else names_in(term)
 
 
+def come_to(program, names):
+    """The list of those of these brooks, and of all to which they come by uses, in the program's order."""
+    found = []
+    rest = list(names)
+    brooks = brook_names(program)
+    while rest:
+        name = rest.pop()
+        if name in brooks and name not in found:
+            found.append(name)
+            rest.extend(uses_of(program, name))
+    return [name for name in brooks if name in found]
+
+
 def with_brook(program, name, term):
     springs, brooks, outs = program
     if name not in brook_names(program):

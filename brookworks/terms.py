@@ -60,6 +60,12 @@ def inner_of(term):
     return term[1 + len(kinds):]
 
 
+def number_in(part):
+    """The NUMBER that stands in the part itself; None where none does."""
+    kinds, _ = SHAPES[part[0]]
+    return part[1 + kinds.index("number")] if "number" in kinds else None
+
+
 def window_of(part):
     """How long the part's window is; 0 where it's none."""
     return part[1] if part[0] in WINDOWS else 0

@@ -3,8 +3,11 @@
 import inspect
 import unittest
 
-from brookworks import looks, nums, programs, terms, texts
-from tests.helpers import A, BIG, BIG_TEXT, ONE, X, Y, halves
+from brookworks import blocks, lookpapers, looks, nums, plain, programs, streams, terms, texts
+from tests.helpers import A, BIG, BIG_TEXT, ONE, X, Y, halves, one_brook
+
+GIVEN = {"x": [ONE, (1, 2), ONE], "y": [ONE, ONE]}
+CLASHING = one_brook(("sum", X, ("half", X)))
 
 # Of each function its arguments as the document writes them, and something to hand in.
 ASKED = {
@@ -50,6 +53,26 @@ ASKED = {
         "look": ("program", (BIG,)),
         "periods_of": ("program", (BIG,)),
     },
+    lookpapers: {
+        "look_paper": ("program", (BIG,)),
+        "shows_look": ("program, thing", (BIG, ([[1]], [["a"]]))),
+        "shows_round": ("program, thing", (one_brook(A), ["a"])),
+        "clash_paper": ("program", (CLASHING,)),
+        "shows_clash": ("program, thing", (CLASHING, [(4, 1)])),
+    },
+    plain: {"plain_run": ("program, given, beats", (BIG, GIVEN, 3))},
+    blocks: {
+        "groups_of": ("program", (BIG,)),
+        "block_run": ("program, given, beats, *, size=8", (BIG, GIVEN, 3)),
+    },
+}
+
+# Of each class the arguments with which it's made, and those of its methods.
+CLASSES = {
+    streams.Streams: ("program", {
+        "feed": "name, numbers", "step": "", "run": "beats", "beat": "", "kept": "", "left": "name", "like": "",
+        "__eq__": "other", "__len__": "",
+    }),
 }
 
 
@@ -63,6 +86,15 @@ class Promises(unittest.TestCase):
     def test_arguments_are_as_written(self):
         for function, written, _ in self.each():
             self.assertEqual(str(inspect.signature(function)), f"({written})")
+
+    def test_classes_are_as_written(self):
+        for made, (written, methods) in CLASSES.items():
+            self.assertEqual(str(inspect.signature(made)), f"({written})")
+            for name, told in methods.items():
+                # In the class itself, not only in a base class.
+                method = vars(made)[name]
+                self.assertEqual(str(inspect.signature(method)), "(self, " * bool(told) + "(self" * (not told) + told + ")")
+                self.assertEqual(method.__module__, made.__module__)
 
     def test_each_is_defined_where_the_interface_lists_it(self):
         for module, functions in ASKED.items():
@@ -89,6 +121,13 @@ class Promises(unittest.TestCase):
                 told.reverse()
                 told.append(None)
                 self.assertEqual(function(*handed), again)
+            if isinstance(told, dict):
+                self.assertIsNot(told, again)
+                for numbers in told.values():
+                    numbers.reverse()
+                    numbers.append(None)
+                told.clear()
+                self.assertEqual(function(*handed), again)
 
     def test_whether_is_told_by_true_or_false(self):
         for name, function in [("is_below", None), *self.whethers()]:
@@ -98,6 +137,10 @@ class Promises(unittest.TestCase):
                 continue
             for thing in [None, (), [], "", 0, ONE, X, BIG, (0, 1), (0, 2), ((), (), ()), [[]]]:
                 self.assertIn(repr(function(thing)), ("True", "False"), name)
+        for shows in (lookpapers.shows_look, lookpapers.shows_round, lookpapers.shows_clash):
+            for thing in [None, (), [], "", 0, lookpapers.look_paper(BIG), ["a"], lookpapers.clash_paper(CLASHING)]:
+                for program in (BIG, CLASHING, one_brook(A)):
+                    self.assertIn(repr(shows(program, thing)), ("True", "False"), thing)
 
     def whethers(self):
         return [("is_num", nums.is_num), ("is_term", terms.is_term), ("is_program", programs.is_program)]
