@@ -42,4 +42,4 @@ def block_run(program, given, beats, *, size=SIZE):
         for turns in groups:
             for beat in range(first, min(first + size, beats)):
                 table.fill(turns, beat)
-    return table.brooks()
+    return table.told()

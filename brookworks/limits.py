@@ -25,6 +25,9 @@ SHORTEST_WINDOW = 2
 LONGEST_WINDOW = 5
 MOST_IN_WINDOWS = 16
 
+# Of graphs that are handed in.
+MOST_NODES = 100
+
 # Of a program's NUMBERs: how much they're worth, above nought or below, and of how many parts.
 MOST_WORTH = 99
 FINEST_PARTS = 16

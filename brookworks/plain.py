@@ -9,4 +9,4 @@ def plain_run(program, given, beats):
     turns = turns_of(program, order_of(program))
     for beat in range(beats):
         table.fill(turns, beat)
-    return table.brooks()
+    return table.told()

@@ -40,5 +40,6 @@ class Table:
                 number = self.number_at(part, within, beat // self.rates[place])
                 self.lists[place].append(number)
 
-    def brooks(self):
+    def told(self):
+        """The dict from each brook's NAME to its list."""
         return {name: self.lists[(name, ())] for name in self.names}

@@ -3,11 +3,15 @@
 import inspect
 import unittest
 
-from brookworks import blocks, lookpapers, looks, nums, plain, programs, streams, terms, texts
+from brookworks import (
+    blocks, codes, graphs, lookpapers, looks, maps, nums, plain, programs, streams, terms, texts,
+)
 from tests.helpers import A, BIG, BIG_TEXT, ONE, X, Y, halves, one_brook
 
 GIVEN = {"x": [ONE, (1, 2), ONE], "y": [ONE, ONE]}
 CLASHING = one_brook(("sum", X, ("half", X)))
+GRAPH = graphs.graph_of(BIG)
+TWICE = ((("sum", None, (1, 2), 1), ("spring", "x", (), 1), ("spring", "x", (), 1)), (("a", 0),))
 
 # Of each function its arguments as the document writes them, and something to hand in.
 ASKED = {
@@ -64,6 +68,21 @@ ASKED = {
     blocks: {
         "groups_of": ("program", (BIG,)),
         "block_run": ("program, given, beats, *, size=8", (BIG, GIVEN, 3)),
+    },
+    graphs: {
+        "is_graph": ("thing", ([[["spring", "x", [], 1]], [["a", 0]]],)),
+        "graph_of": ("program", (BIG,)),
+        "alike_in": ("graph", (TWICE,)),
+        "least_graph": ("graph", (TWICE,)),
+        "graph_run": ("graph, given, beats", (GRAPH, GIVEN, 3)),
+    },
+    maps: {
+        "map_of": ("program", (BIG,)),
+        "shows_map": ("program, graph, thing", (BIG, GRAPH, [[["acc", [0]], 1]])),
+    },
+    codes: {
+        "code_of": ("graph, *, boxes=120", (GRAPH,)),
+        "work_of": ("code", (codes.code_of(GRAPH),)),
     },
 }
 
@@ -141,9 +160,13 @@ class Promises(unittest.TestCase):
             for thing in [None, (), [], "", 0, lookpapers.look_paper(BIG), ["a"], lookpapers.clash_paper(CLASHING)]:
                 for program in (BIG, CLASHING, one_brook(A)):
                     self.assertIn(repr(shows(program, thing)), ("True", "False"), thing)
+        for thing in [None, (), [], "", 0, maps.map_of(BIG), maps.map_of(BIG)[:-1], [None], [(None, None)]]:
+            for program in (BIG, CLASHING):
+                self.assertIn(repr(maps.shows_map(program, GRAPH, thing)), ("True", "False"), thing)
 
     def whethers(self):
-        return [("is_num", nums.is_num), ("is_term", terms.is_term), ("is_program", programs.is_program)]
+        return [("is_num", nums.is_num), ("is_term", terms.is_term), ("is_program", programs.is_program),
+                ("is_graph", graphs.is_graph)]
 
     def test_whole_numbers_are_told_as_such(self):
         for told in [
