@@ -2,6 +2,8 @@
 
 import random
 
+from brookworks.texts import program_in
+
 ZERO = (0, 1)
 ONE = (1, 1)
 HALF = (1, 2)
@@ -74,6 +76,20 @@ THINGS = [
     ("fixed",), ("name",), ["fixed", (1, 1)], (("fixed", (1, 1)),), ("sum",), ([], [], []), ((), (), ()),
     ({}.get("a"), ("a", [1, True])),
 ]
+
+
+def program_of(*rows):
+    return program_in("\n".join(rows))
+
+
+def whole(*numbers):
+    """NUMBERs of one part each."""
+    return [(number, 1) for number in numbers]
+
+
+def spring(name="x", period=1):
+    """A NODE."""
+    return ("spring", name, (), period)
 
 
 def one_brook(term, *springs):

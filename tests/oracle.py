@@ -4,8 +4,9 @@ import random
 from fractions import Fraction
 
 from brookworks.errors import Clash, Loose, Round, TooFar
-from brookworks.looks import periods_of
+from brookworks.looks import look, periods_of
 from brookworks.programs import is_program
+from tests.helpers import some_programs
 
 REFUSED = (Round, Clash, Loose, TooFar)
 
@@ -84,6 +85,21 @@ def can_be_looked_at(program):
     except REFUSED:
         return False
     return True
+
+
+def check_refused_as_look_is(case, seed, ask):
+    """Whether what asks of a program is refused just as look is, for each reason that there is."""
+    kinds = set()
+    for program in some_programs(seed, 500):
+        try:
+            look(program)
+        except REFUSED as refused:
+            kinds.add(type(refused))
+            with case.assertRaises(type(refused)) as caught:
+                ask(program)
+            case.assertIs(type(caught.exception), type(refused))
+            case.assertEqual(vars(caught.exception), vars(refused))
+    case.assertEqual(kinds, set(REFUSED))
 
 
 def some_given(dice, springs, beats, spare=0):

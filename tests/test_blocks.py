@@ -9,19 +9,10 @@ from brookworks.limits import SIZE
 from brookworks.looks import look
 from brookworks.plain import plain_run
 from brookworks.programs import brook_names, uses_of, with_brook
-from brookworks.texts import program_in
-from tests.helpers import A, BIG, FIX, X, ZERO, one_brook, some_programs
-from tests.oracle import REFUSED, some_given, some_good_programs, told_by
+from tests.helpers import A, BIG, FIX, X, ZERO, one_brook, program_of, some_programs, whole
+from tests.oracle import REFUSED, check_refused_as_look_is, some_given, some_good_programs, told_by
 
 SIZES = (1, 2, 3, 7, 8, 64, 100)
-
-
-def program_of(*rows):
-    return program_in("\n".join(rows))
-
-
-def whole(*numbers):
-    return [(number, 1) for number in numbers]
 
 
 # Two rounds through lates of two beats, one of them with a window and rates, and a brook of each.
@@ -151,18 +142,7 @@ class Refused(unittest.TestCase):
         self.assertEqual(block_run(program, full, 16), {"a": whole(*range(8))})
 
     def test_as_look_is(self):
-        kinds = set()
-        for program in some_programs(64, 500):
-            try:
-                look(program)
-            except REFUSED as refused:
-                kinds.add(type(refused))
-                with self.assertRaises(type(refused)) as caught:
-                    block_run(program, {}, 4)
-                self.assertEqual(vars(caught.exception), vars(refused))
-            else:
-                self.assertRaises(NotGiven, block_run, program, {}, 0)
-        self.assertEqual(kinds, set(REFUSED))
+        check_refused_as_look_is(self, 64, lambda program: block_run(program, {}, 4))
 
 
 if __name__ == "__main__":

@@ -8,23 +8,11 @@ from brookworks.codes import code_of, work_of
 from brookworks.errors import TooFew
 from brookworks.graphs import alike_in, graph_of, graph_run, is_graph
 from brookworks.limits import MOST_BOXES
-from brookworks.texts import program_in, term_in
+from brookworks.texts import term_in
 from tests import graphing
-from tests.helpers import A, BIG, ONE, X, ZERO, one_brook
+from tests.helpers import A, BIG, ONE, X, ZERO, one_brook, program_of, spring
 from tests.oracle import as_number, some_given, some_good_programs, worth
 from tests.test_graphs import EACH
-
-
-def program_of(*rows):
-    return program_in("\n".join(rows))
-
-
-def whole(*numbers):
-    return [(number, 1) for number in numbers]
-
-
-def spring(name="x", period=1):
-    return ("spring", name, (), period)
 
 
 def graph_with(text, *springs):

@@ -8,23 +8,11 @@ from brookworks.graphs import alike_in, graph_of, graph_run, is_graph, least_gra
 from brookworks.looks import look
 from brookworks.plain import plain_run
 from brookworks.programs import with_brook
-from brookworks.texts import program_in, term_in
+from brookworks.texts import term_in
 from tests import graphing
-from tests.helpers import A, BIG, ONE, X, ZERO, one_brook, some_programs
-from tests.oracle import REFUSED, some_given, some_good_programs, told_by
+from tests.helpers import A, BIG, ONE, X, ZERO, one_brook, program_of, some_programs, spring, whole
+from tests.oracle import REFUSED, check_refused_as_look_is, some_given, some_good_programs, told_by
 from tests.spoiling import ODD, spoilt_things
-
-
-def program_of(*rows):
-    return program_in("\n".join(rows))
-
-
-def whole(*numbers):
-    return [(number, 1) for number in numbers]
-
-
-def spring(name="x", period=1):
-    return ("spring", name, (), period)
 
 
 def out(*nodes):
@@ -180,16 +168,7 @@ class GraphOf(unittest.TestCase):
             yield program
 
     def test_refused_as_look_is(self):
-        kinds = set()
-        for program in some_programs(73, 400):
-            try:
-                look(program)
-            except REFUSED as refused:
-                kinds.add(type(refused))
-                with self.assertRaises(type(refused)) as caught:
-                    graph_of(program)
-                self.assertEqual(vars(caught.exception), vars(refused))
-        self.assertEqual(kinds, set(REFUSED))
+        check_refused_as_look_is(self, 73, graph_of)
 
     def test_told_beyond_the_bounds(self):
         term = X

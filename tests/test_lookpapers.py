@@ -7,14 +7,9 @@ from brookworks.errors import Clash, Loose, Round, TooFar
 from brookworks.lookpapers import clash_paper, look_paper, shows_clash, shows_look, shows_round
 from brookworks.looks import look, periods_of, rules_of
 from brookworks.programs import brook_names, uses_of
-from brookworks.texts import program_in
-from tests.helpers import A, BIG, FIX, X, Y, ZERO, halves, one_brook, some_programs
-from tests.oracle import REFUSED, some_good_programs
+from tests.helpers import A, BIG, FIX, X, Y, ZERO, halves, one_brook, program_of, some_programs
+from tests.oracle import REFUSED, check_refused_as_look_is, some_good_programs
 from tests.spoiling import ODD, spoilt_things
-
-
-def program_of(*rows):
-    return program_in("\n".join(rows))
 
 
 # c stands first, though it uses the others; e uses itself in a late.
@@ -94,18 +89,7 @@ class LookPapers(unittest.TestCase):
             self.assertIs(shows_look(program, paper), True)
 
     def test_refused_as_look_is(self):
-        counted = {}
-        for program in some_programs(11, 800):
-            try:
-                look(program)
-            except REFUSED as refused:
-                counted[type(refused)] = counted.get(type(refused), 0) + 1
-                with self.assertRaises(type(refused)) as caught:
-                    look_paper(program)
-                self.assertEqual(vars(caught.exception), vars(refused))
-            else:
-                look_paper(program)
-        self.assertEqual(set(counted), set(REFUSED))
+        check_refused_as_look_is(self, 11, look_paper)
 
     def test_any_order_that_is_so_is_shown(self):
         for program in [BIG, TANGLED] + [one for one in some_good_programs(4, 60) if len(one[1]) <= 5]:

@@ -7,12 +7,7 @@ from brookworks.errors import Clash, Loose, Round, TooFar
 from brookworks.looks import look, periods_of, round_of, rules_of
 from brookworks.programs import is_program, places_of, uses_of, with_brook, without
 from brookworks.terms import part_at
-from brookworks.texts import program_in
-from tests.helpers import A, BIG, FIX, FORMS, X, Y, ZERO, halves, one_brook, some_programs
-
-
-def program_of(*rows):
-    return program_in("\n".join(rows))
+from tests.helpers import A, BIG, FIX, FORMS, X, Y, ZERO, halves, one_brook, program_of, some_programs
 
 
 def kept(rules):

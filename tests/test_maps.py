@@ -8,19 +8,10 @@ from brookworks.looks import look
 from brookworks.maps import map_of, shows_map
 from brookworks.programs import is_program, places_of
 from brookworks.terms import part_at
-from brookworks.texts import program_in
 from tests import graphing
-from tests.helpers import A, BIG, FIX, ONE, X, Y, ZERO, halves, one_brook, some_programs
-from tests.oracle import REFUSED, some_good_programs
+from tests.helpers import A, BIG, FIX, ONE, X, Y, ZERO, halves, one_brook, program_of, spring
+from tests.oracle import REFUSED, check_refused_as_look_is, some_good_programs
 from tests.spoiling import ODD, spoilt_things
-
-
-def program_of(*rows):
-    return program_in("\n".join(rows))
-
-
-def spring(name="x", period=1):
-    return ("spring", name, (), period)
 
 
 # Windows, names of names, a brook that nothing uses, and rounds.
@@ -110,16 +101,7 @@ class MapOf(unittest.TestCase):
             self.assertIs(shows_map(program, graph_of(program), pairs), True)
 
     def test_refused_as_look_is(self):
-        kinds = set()
-        for program in some_programs(82, 400):
-            try:
-                look(program)
-            except REFUSED as refused:
-                kinds.add(type(refused))
-                with self.assertRaises(type(refused)) as caught:
-                    map_of(program)
-                self.assertEqual(vars(caught.exception), vars(refused))
-        self.assertEqual(kinds, set(REFUSED))
+        check_refused_as_look_is(self, 82, map_of)
 
     def test_what_is_told_is_the_askers_own(self):
         told, again = map_of(BIG), map_of(BIG)

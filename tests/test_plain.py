@@ -7,17 +7,9 @@ from brookworks.errors import NotGiven
 from brookworks.looks import look
 from brookworks.plain import plain_run
 from brookworks.programs import with_brook
-from brookworks.texts import program_in, term_in
-from tests.helpers import A, BIG, FIX, HALF, ONE, X, Y, ZERO, one_brook, some_programs
-from tests.oracle import REFUSED, some_given, some_good_programs, told_by
-
-
-def program_of(*rows):
-    return program_in("\n".join(rows))
-
-
-def whole(*numbers):
-    return [(number, 1) for number in numbers]
+from brookworks.texts import term_in
+from tests.helpers import A, BIG, FIX, HALF, ONE, X, Y, ZERO, one_brook, program_of, some_programs, whole
+from tests.oracle import REFUSED, check_refused_as_look_is, some_given, some_good_programs, told_by
 
 
 def told_of(text, beats, *springs, **given):
@@ -220,19 +212,9 @@ class Refused(unittest.TestCase):
         self.not_given(one_brook(X), {"x": whole(1), "a": whole(1)}, 1, "y")
 
     def test_refused_as_look_is_ahead_of_that(self):
-        kinds = set()
-        for program in some_programs(43, 500):
-            try:
-                look(program)
-            except REFUSED as refused:
-                kinds.add(type(refused))
-                for given in ({}, {name: whole(*range(4)) for name, _ in program[0]}):
-                    with self.assertRaises(type(refused)) as caught:
-                        plain_run(program, given, 4)
-                    self.assertEqual(vars(caught.exception), vars(refused))
-            else:
-                self.not_given(program, {}, 4, min(name for name, _ in program[0]))
-        self.assertEqual(kinds, set(REFUSED))
+        check_refused_as_look_is(self, 43, lambda program: plain_run(program, {}, 4))
+        full = {name: whole(*range(4)) for name in "xyz"}
+        check_refused_as_look_is(self, 44, lambda program: plain_run(program, full, 4))
 
 
 if __name__ == "__main__":

@@ -9,17 +9,9 @@ from brookworks.plain import plain_run
 from brookworks.programs import places_of, with_brook
 from brookworks.streams import Streams
 from brookworks.terms import part_at
-from brookworks.texts import program_in, term_in
-from tests.helpers import A, BIG, HALF, ONE, X, Y, ZERO, one_brook, some_programs
-from tests.oracle import REFUSED, Oracle, as_number, some_given, some_good_programs
-
-
-def program_of(*rows):
-    return program_in("\n".join(rows))
-
-
-def whole(*numbers):
-    return [(number, 1) for number in numbers]
+from brookworks.texts import term_in
+from tests.helpers import A, BIG, HALF, ONE, X, Y, ZERO, one_brook, program_of, whole
+from tests.oracle import Oracle, as_number, check_refused_as_look_is, some_given, some_good_programs
 
 
 def fed(program, **given):
@@ -184,18 +176,8 @@ class Kept(unittest.TestCase):
 
 class Refused(unittest.TestCase):
     def test_as_look_is(self):
-        kinds = set()
-        for program in some_programs(53, 500):
-            try:
-                look(program)
-            except REFUSED as refused:
-                kinds.add(type(refused))
-                with self.assertRaises(type(refused)) as caught:
-                    Streams(program)
-                self.assertEqual(vars(caught.exception), vars(refused))
-            else:
-                Streams(program=program)
-        self.assertEqual(kinds, set(REFUSED))
+        check_refused_as_look_is(self, 53, Streams)
+        self.assertEqual(Streams(program=BIG), Streams(BIG))
 
     def test_no_spring(self):
         streams = fed(BIG, x=[1])
