@@ -1,15 +1,14 @@
 """GRAPHs: pairs (nodes, outs) that tell what programs tell, each thing at one node."""
 
 from brookworks.drafts import drawn
-from brookworks.givens import check_given
 from brookworks.likeness import called_as_come_to, kinds_of, least_of
 from brookworks.limits import MOST_NODES, MOST_OUTS
 from brookworks.looks import stuck_in
-from brookworks.nodes import args_now, nodes_in_turn, springs_in
+from brookworks.noderuns import run_of
+from brookworks.nodes import args_now, springs_in
 from brookworks.nums import is_num, is_whole
 from brookworks.programs import are_unlike, is_pair, is_period, is_row_of
 from brookworks.terms import is_name
-from brookworks.worths import number_of
 
 # Of each word what stands behind it, and how many args.
 NODES = {
@@ -101,16 +100,4 @@ def least_graph(graph):
 
 
 def graph_run(graph, given, beats):
-    check_given(springs_in(graph), given, beats)
-    nodes, outs = graph
-    order = nodes_in_turn(graph)
-    told = {node: [] for node in order}
-    for beat in range(beats):
-        for node in order:
-            word, what, args, period = nodes[node]
-            if beat % period == 0:
-                at = beat // period
-                within = [told[arg] for arg in args]
-                number = given[what][at] if word == "spring" else number_of(word, what, at, within)
-                told[node].append(number)
-    return {name: list(told[node]) for name, node in outs}
+    return run_of(graph, given, beats)

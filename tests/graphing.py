@@ -3,7 +3,7 @@
 import itertools
 import random
 
-from brookworks.graphs import graph_of
+from brookworks.graphs import graph_of, least_graph
 from brookworks.looks import periods_of
 from brookworks.programs import uses_of
 from brookworks.terms import part_at
@@ -295,6 +295,44 @@ def code_faults(graph, code):
     return faults
 
 
+def is_code(graph, thing):
+    """Whether a thing is a CODE of the graph by its form alone, by [14] word by word."""
+    nodes = graph[0]
+
+    def is_box(box):
+        return is_whole(box) and 0 <= box < thing[0]
+
+    def is_row(row):
+        if type(row) is not tuple or row == () or type(row[0]) is not str:
+            return False
+        word, *rest = row
+        if word == "take":
+            return len(rest) == 2 and (rest[0] is None or is_box(rest[0])) and type(rest[1]) is str
+        if word == "fix":
+            return len(rest) == 2 and is_box(rest[0]) and is_number(rest[1])
+        if word == "by":
+            return len(rest) == 3 and is_box(rest[0]) and is_number(rest[1]) and is_box(rest[2])
+        if word == "give":
+            return len(rest) == 2 and type(rest[0]) is str and is_box(rest[1])
+        many = {"sum": 3, "less": 3, "most": 3, "least": 3, "pick": 4, "copy": 2}
+        return word in many and len(rest) == many[word] and all(is_box(box) for box in rest)
+
+    if type(thing) is not tuple or len(thing) != 3 or not is_whole(thing[0]) or thing[0] > 10 ** 6:
+        return False
+    if type(thing[1]) is not tuple or type(thing[2]) is not tuple:
+        return False
+    for row in thing[1]:
+        if type(row) is not tuple or len(row) != 3 or not is_box(row[0]) or not is_whole(row[1]):
+            return False
+        if row[1] not in range(len(nodes)) or repr(row[2]) != repr(nodes[row[1]][1]):
+            return False
+    return all(type(rows) is tuple and all(is_row(row) for row in rows) for rows in thing[2])
+
+
+def is_right_code(graph, thing):
+    return is_code(graph, thing) and code_faults(graph, thing) == []
+
+
 def work_awaited(code):
     """By [14] word by word: behind each row look at each box what comes of it."""
     _, kept, beats = code
@@ -329,3 +367,37 @@ def some_graphs(seed, programs):
     for program in programs:
         graph = graph_of(program)
         yield called_anew(graph, dice.sample(range(len(graph[0])), len(graph[0])))
+
+
+def flat_graph(term):
+    """The least graph of a TERM without names of brooks, windows, halves, twices: all of period 1."""
+    nodes = []
+
+    def add(part):
+        inner = [one for one in part[1:] if isinstance(one, tuple) and isinstance(one[0], str)]
+        args = tuple(add(one) for one in inner)
+        what = part[1] if part[0] in ("name", "fixed", "by", "late") else None
+        nodes.append(("spring" if part[0] == "name" else part[0], what, args, 1))
+        return len(nodes) - 1
+
+    root = add(term)
+    return least_graph((tuple(nodes), (("a", root),)))
+
+
+def some_tangled_graphs(seed, many):
+    """Least graphs of one period in which lates lead anywhere: with many rounds, more than programs have."""
+    dice = random.Random(seed)
+    for _ in range(many):
+        count = dice.randint(2, 14)
+        period = dice.choice([1, 1, 2])
+        nodes = []
+        for at in range(count):
+            word = "spring" if at == count - 1 else dice.choice(
+                ["late", "late", "by", "sum", "less", "most", "least", "pick", "fixed", "spring"])
+            number = dice.choice([(1, 1), (0, 1), (-2, 1), (1, 2), (-3, 2), (3, 4), (5, 16)])
+            what = dice.choice("xyz") if word == "spring" else number if word in ("late", "by", "fixed") else None
+            wanted = {"sum": 2, "less": 2, "most": 2, "least": 2, "pick": 3, "by": 1, "late": 1}.get(word, 0)
+            args = [dice.randrange(0 if word == "late" else at + 1, count) for _ in range(wanted)]
+            nodes.append((word, what, tuple(args), period))
+        outs = (("a", 0), ("b", dice.randrange(count)))[:dice.randint(1, 2)]
+        yield least_graph(called_anew((nodes, outs), sorted(come_to(nodes, outs))))
