@@ -1,6 +1,8 @@
 """GIVENs: dicts from springs' NAMEs to lists of NUMBERs."""
 
 from brookworks.errors import NotGiven
+from brookworks.limits import FINEST_TOLD, MOST_TOLD
+from brookworks.nums import is_num_within
 
 
 def many_below(period, beats):
@@ -8,9 +10,19 @@ def many_below(period, beats):
     return (beats + period - 1) // period
 
 
+def check_counts(counts, given):
+    """counts are pairs (NAME, how many numbers are wanted)."""
+    for name, many in sorted(counts):
+        numbers = given.get(name)
+        if type(numbers) is not list or len(numbers) < many:
+            raise NotGiven(name)
+
+
 def check_given(springs, given, beats):
     """springs are pairs (NAME, period)."""
-    for name, period in sorted(springs):
-        numbers = given.get(name)
-        if type(numbers) is not list or len(numbers) < many_below(period, beats):
-            raise NotGiven(name)
+    check_counts([(name, many_below(period, beats)) for name, period in springs], given)
+
+
+def is_told(thing):
+    """Whether a thing is a number that a spring can tell."""
+    return is_num_within(thing, MOST_TOLD, FINEST_TOLD)

@@ -31,3 +31,9 @@ MOST_NODES = 100
 # Of a program's NUMBERs: how much they're worth, above nought or below, and of how many parts.
 MOST_WORTH = 99
 FINEST_PARTS = 16
+
+# Of what springs tell: how much it's worth, of how many parts, how many at once; beats of a record.
+MOST_TOLD = 999
+FINEST_TOLD = 64
+MOST_AT_ONCE = 64
+MOST_BEATS = 64

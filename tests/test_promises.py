@@ -4,8 +4,8 @@ import inspect
 import unittest
 
 from brookworks import (
-    blocks, codecheck, codes, device, figures, graphs, lookpapers, looks, maps, noise, nums, plain, programs,
-    streams, terms, texts,
+    blocks, codecheck, codes, desk, device, figures, graphs, joint, lookpapers, looks, maps, mill, noise, nums, plain,
+    programs, streams, terms, texts, ways,
 )
 from tests.helpers import A, BIG, BIG_TEXT, ONE, X, Y, halves, one_brook
 
@@ -13,6 +13,7 @@ GIVEN = {"x": [ONE, (1, 2), ONE], "y": [ONE, ONE]}
 CLASHING = one_brook(("sum", X, ("half", X)))
 GRAPH = graphs.graph_of(BIG)
 CODE = codes.code_of(GRAPH)
+JOINED = joint.joined_of(BIG, GIVEN, 3)
 TWICE = ((("sum", None, (1, 2), 1), ("spring", "x", (), 1), ("spring", "x", (), 1)), (("a", 0),))
 
 # Of each function its arguments as the document writes them, and something to hand in.
@@ -94,6 +95,20 @@ ASKED = {
         "off_by": ("graph, given, beats, *, figures=8", (GRAPH, GIVEN, 3)),
         "worst_of": ("graph, numbers, beats, *, figures=8", (GRAPH, [ONE, (2, 1)], 2)),
     },
+    ways: {
+        "least_way": ("graph, name, out", (GRAPH, "x", "thick")),
+        "shows_way": ("graph, name, out, thing", (GRAPH, "x", "thick", (0, [[1], 2]))),
+        "lates_of": ("graph, name, out", (GRAPH, "x", "thick")),
+        "felt_by": ("graph, given, name, number, other, beats", (GRAPH, GIVEN, "x", 1, (5, 1), 3)),
+    },
+    joint: {
+        "record_of": ("code, given, beats, *, wide=24, figures=8", (CODE, GIVEN, 3)),
+        "shows_record": ("code, thing, *, wide=24, figures=8", (CODE, [[0, "in"], (0, ["in"])])),
+        "joined_of": ("program, given, beats, *, wide=24, figures=8", (BIG, GIVEN, 3)),
+        "shows_joined": ("program, thing, *, wide=24, figures=8", (BIG, JOINED)),
+        "outs_in": ("thing", (JOINED,)),
+    },
+    desk: {"answers": ("text", (BIG_TEXT + "\nmill\nfeed x 1\nfeed y 1\ngo 1",))},
 }
 
 # Of each class the arguments with which it's made, and those of its methods.
@@ -105,6 +120,12 @@ CLASSES = {
     device.Device: ("code, *, wide=24, figures=8", {
         "feed": "name, numbers", "step": "", "run": "beats", "beat": "", "boxes": "", "left": "name", "image": "",
         "like": "", "__eq__": "other", "__len__": "",
+    }),
+    mill.Mill: ("program", {
+        "feed": "name, numbers", "go": "*, beats=1", "put": "name, term, *, keep=False", "drop": "name", "show": "name",
+        "hide": "name", "undo": "", "do": "deeds, *, whole=True", "program": "", "beat": "", "kept": "", "left": "name",
+        "periods": "", "round_now": "", "told": "*, first=0", "graph": "", "deeds": "", "twin": "", "busy": "", "log": "",
+        "__eq__": "other",
     }),
 }
 
@@ -182,6 +203,10 @@ class Promises(unittest.TestCase):
                 self.assertIn(repr(maps.shows_map(program, GRAPH, thing)), ("True", "False"), thing)
         for thing in [None, (), [], "", 0, CODE, CODE[:2], (1, (), ()), (1, (), ((),))]:
             self.assertIn(repr(codecheck.shows_code(GRAPH, thing)), ("True", "False"), thing)
+        for thing in [None, (), [], "", 0, JOINED, JOINED[4], ways.least_way(GRAPH, "x", "acc"), (0, [0])]:
+            self.assertIn(repr(ways.shows_way(GRAPH, "x", "acc", thing)), ("True", "False"), thing)
+            self.assertIn(repr(joint.shows_record(CODE, thing)), ("True", "False"), thing)
+            self.assertIn(repr(joint.shows_joined(BIG, thing)), ("True", "False"), thing)
 
     def whethers(self):
         return [("is_num", nums.is_num), ("is_term", terms.is_term), ("is_program", programs.is_program),
