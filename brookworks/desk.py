@@ -9,8 +9,7 @@ from brookworks.errors import (
 from brookworks.mill import Mill
 from brookworks.noise import noise_of
 from brookworks.nums import num_text
-from brookworks.programs import is_program
-from brookworks.texts import Reading
+from brookworks.texts import program_told
 from brookworks.ways import least_way
 
 NOISE_BEATS = 16
@@ -111,18 +110,6 @@ def answer(mill, order):
         return "refused " + type(refused).__name__
 
 
-def program_ahead(rows):
-    """The PROGRAM that these rows tell, up to the row `mill`, or the end."""
-    reading = Reading()
-    for at, row in enumerate(rows):
-        if not reading.take(row):
-            raise BadRow(at)
-    program = reading.program()
-    if not is_program(program):
-        raise BadRow(len(rows))
-    return program
-
-
 def orders_behind(rows, first):
     """The list of what these rows ask, the first of them having that number."""
     orders = []
@@ -138,7 +125,7 @@ def orders_behind(rows, first):
 def answers(text):
     rows = text.split("\n")
     many = rows.index("mill") if "mill" in rows else len(rows)
-    program = program_ahead(rows[:many])
+    program = program_told(rows[:many])
     if many == len(rows):
         raise BadRow(many)
     orders = orders_behind(rows[many + 1:], many + 1)

@@ -1,6 +1,7 @@
 """A device: rows done beat by beat, in boxes that hold numbers of few figures."""
 
-from brookworks.errors import Dry, NoSpring, Small
+from brookworks.errors import Dry, Small
+from brookworks.givens import queue_in
 from brookworks.limits import FIGURES, WIDE
 from brookworks.nums import cut_of, times_of
 from brookworks.rows import reads_of
@@ -52,13 +53,8 @@ class Device:
         worth = (number[0] << self.figures) // number[1]
         return -most <= worth < most
 
-    def queue_of(self, name):
-        if name not in self.queues:
-            raise NoSpring(name)
-        return self.queues[name]
-
     def feed(self, name, numbers):
-        self.queue_of(name).extend(list(numbers))
+        queue_in(self.queues, name).extend(list(numbers))
 
     def check_fed(self, beats):
         """Refused with Dry where a spring has too few for so many beats."""
@@ -118,7 +114,7 @@ class Device:
         return [self.holds.get(box) for box in range(self.code[0])]
 
     def left(self, name):
-        return list(self.queue_of(name))
+        return list(queue_in(self.queues, name))
 
     def image(self):
         holds = tuple([(box, self.holds[box]) for box in sorted(self.holds)])

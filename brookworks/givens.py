@@ -1,6 +1,6 @@
 """GIVENs: dicts from springs' NAMEs to lists of NUMBERs."""
 
-from brookworks.errors import NotGiven
+from brookworks.errors import NoSpring, NotGiven
 from brookworks.limits import FINEST_TOLD, MOST_TOLD
 from brookworks.nums import is_num_within
 
@@ -26,3 +26,10 @@ def check_given(springs, given, beats):
 def is_told(thing):
     """Whether a thing is a number that a spring can tell."""
     return is_num_within(thing, MOST_TOLD, FINEST_TOLD)
+
+
+def queue_in(queues, name):
+    """What's fed of a spring and not told yet, queues being the dict from springs' NAMEs to such lists."""
+    if name not in queues:
+        raise NoSpring(name)
+    return queues[name]

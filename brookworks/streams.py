@@ -1,7 +1,7 @@
 """Programs done beat by beat, by what's kept from one beat to the next."""
 
-from brookworks.errors import Dry, NoSpring
-from brookworks.givens import many_below
+from brookworks.errors import Dry
+from brookworks.givens import many_below, queue_in
 from brookworks.keeps import first_kept, keeps, kept_next, number_now
 from brookworks.looks import periods_of
 from brookworks.programs import spring_names
@@ -32,13 +32,8 @@ class Streams:
     def __len__(self):
         return len(range(self.next_beat))
 
-    def queue_of(self, name):
-        if name not in self.queues:
-            raise NoSpring(name)
-        return self.queues[name]
-
     def feed(self, name, numbers):
-        self.queue_of(name).extend(list(numbers))
+        queue_in(self.queues, name).extend(list(numbers))
 
     def check_fed(self, beats):
         """Refused with Dry where a spring has too few for so many beats."""
@@ -89,7 +84,7 @@ class Streams:
         return [(place, self.keeping[place]) for place in self.keeping]
 
     def left(self, name):
-        return list(self.queue_of(name))
+        return list(queue_in(self.queues, name))
 
     def like(self):
         fresh = Streams(self.plan)

@@ -173,8 +173,8 @@ class Reading:
         return (tuple(self.springs), tuple(self.brooks), tuple(self.outs))
 
 
-def program_in(text):
-    rows = text.split("\n")
+def program_told(rows):
+    """The PROGRAM that a list of rows tells; refused with BadRow."""
     reading = Reading()
     for at, row in enumerate(rows):
         if not reading.take(row):
@@ -183,3 +183,7 @@ def program_in(text):
     if not is_program(program):
         raise BadRow(len(rows))
     return program
+
+
+def program_in(text):
+    return program_told(text.split("\n"))

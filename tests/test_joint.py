@@ -3,6 +3,7 @@
 import random
 import unittest
 
+from brookworks.codecheck import shows_code
 from brookworks.codes import code_of
 from brookworks.device import Device
 from brookworks.errors import Dry, NotGiven, Small
@@ -10,7 +11,7 @@ from brookworks.figures import figures_by
 from brookworks.graphs import graph_of, least_graph
 from brookworks.joint import joined_of, outs_in, record_of, shows_joined, shows_record
 from brookworks.lookpapers import look_paper
-from brookworks.maps import map_of
+from brookworks.maps import map_of, shows_map
 from brookworks.plain import plain_run
 from tests import devices, graphing
 from tests.helpers import BIG, HALF, ONE, X, ZERO, one_brook, program_of, spring, whole
@@ -326,6 +327,13 @@ class Joined(unittest.TestCase):
         given, thing = self.joined(program, 1)
         pairs = [(("a", (0,)), 1), (("a", (1,)), 2), (("a", ()), 0)]
         self.assertIs(shows_joined(program, (thing[0], pairs, twice, thing[3], thing[4])), False)
+        # Though the code shows what such a graph tells.
+        code = (3, (), ((("take", 0, "x"), ("take", 1, "x"), ("sum", 2, 0, 1), ("give", "a", 2)),))
+        self.assertIs(shows_code(twice, code), True)
+        record = record_of(code, {"x": whole(1, 2)}, 1)
+        self.assertIs(shows_record(code, record), True)
+        self.assertIs(shows_map(program, twice, pairs), True)
+        self.assertIs(shows_joined(program, (thing[0], pairs, twice, code, record)), False)
         for other in [None, (), ((), ()), ([], []), (thing[2][0], ()), (list(thing[2][0]), thing[2][1])]:
             self.assertIs(shows_joined(program, (thing[0], thing[1], other, thing[3], thing[4])), False)
 
