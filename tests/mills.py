@@ -209,7 +209,8 @@ class Shadow:
             if not self.back:
                 return False
             state, _ = self.back.pop()
-            self.take_back(state)
+            # A row that's done whole may bring back what's popped here.
+            self.take_back(copy.deepcopy(state))
             return True
         if word == "do":
             return self.do(*things)
