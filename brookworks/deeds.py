@@ -23,12 +23,12 @@ def is_of_deed(kind, thing):
     if kind == "whether":
         return thing is True or thing is False
     if kind == "deeds":
-        return type(thing) is list
+        return type(thing) is list and all([is_deed(deed) for deed in thing])
     return True
 
 
 def is_deed(thing):
-    """Whether a thing is a deed, whatever stands in a do's list."""
+    """Whether a thing is a deed, and all that a do's list holds is, too."""
     if type(thing) is not tuple or len(thing) == 0:
         return False
     word = thing[0]
@@ -41,9 +41,8 @@ def is_deed(thing):
 
 
 def check_deeds(deeds):
-    """Refused with BadDeed, the place in the list in which it stands, of the first that's none."""
+    """Refused with BadDeed, the place in this list, of the first that's no deed: of the outermost do where
+    what is none stands within."""
     for at, deed in enumerate(deeds):
         if not is_deed(deed):
             raise BadDeed(at)
-        if deed[0] == "do":
-            check_deeds(deed[1])

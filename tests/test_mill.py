@@ -577,6 +577,11 @@ class Rows(Check):
         self.assertRaises(Dry, lambda: mill.do([("go", 1)], whole=False))
         self.assertEqual(mill.log()[12:], [("in", 1), ("out", 1)])
 
+    def refused_at(self, number, mill, deeds):
+        """Refused with that place, whole or not."""
+        self.refused(BadDeed, mill, lambda: mill.do(deeds), number=number)
+        self.refused(BadDeed, mill, lambda: mill.do(deeds, whole=False), number=number)
+
     def test_bad_deeds(self):
         mill = self.fed(ACC, x=[1, 2, 3])
         good = [("feed", "x", whole(1)), ("go", 64), ("put", "a", X, False), ("drop", None), ("show", []), ("hide", ""), ("undo",),
@@ -593,23 +598,56 @@ class Rows(Check):
                 self.assertNotIn(thing, good)
             for at in (0, 3, len(good)):
                 deeds = good[:at] + [thing] + good[at:]
-                self.refused(BadDeed, mill, lambda: mill.do(deeds), number=at)
-                self.refused(BadDeed, mill, lambda: mill.do(deeds, whole=False), number=at)
-            self.refused(BadDeed, mill, lambda: mill.do([("undo",), thing, thing, ("go", 99)]), number=1)
+                self.refused_at(at, mill, deeds)
+            self.refused_at(1, mill, [("undo",), thing, thing, ("go", 99)])
+            self.refused_at(1, mill, [("undo",), ("do", [("undo",), ("undo",), thing], True), thing])
 
     def test_bad_deeds_within(self):
-        # The place is told in the list of the do in which it stands.
-        mill = Mill(ACC)
-        self.refused(BadDeed, mill, lambda: mill.do([("undo",), ("do", [("go", 0)], True)]), number=0)
-        self.refused(BadDeed, mill, lambda: mill.do([("do", [("undo",), ("undo",), ("gone",)], True), ("go", 0)]), number=2)
-        self.refused(BadDeed, mill, lambda: mill.do([("do", [("undo",)], True), ("go", 0)]), number=1)
-        self.refused(BadDeed, mill, lambda: mill.do([("do", [("undo",), ("do", [("undo",), ("undo",), ("undo",), 0], True)], True)]), number=3)
-        # A do that's none itself goes ahead of what's in it.
-        self.refused(BadDeed, mill, lambda: mill.do([("undo",), ("undo",), ("do", [("go", 0)], 1)]), number=2)
-        self.refused(BadDeed, mill, lambda: mill.do([("undo",), ("do", [("undo",), ("do", [5], 1)], True)]), number=1)
+        # The place is told in the list handed in: of the outermost do in which it stands.
+        mill = self.fed(ACC, x=[1, 2, 3])
+        undo = ("undo",)
+        self.refused_at(2, mill, [undo, undo, ("do", [undo, 3], True)])
+        self.refused_at(1, mill, [undo, ("do", [("do", [("go", 99)], True)], False)])
+        self.refused_at(0, mill, [("do", [["undo"]], False), ("go", 0)])
+        self.refused_at(1, mill, [undo, ("do", [("go", 0)], True)])
+        self.refused_at(0, mill, [("do", [undo, undo, ("gone",)], True), ("go", 0)])
+        self.refused_at(0, mill, [("do", [undo, ("do", [undo, undo, undo, 0], True)], True)])
+        good, bad = ("do", [undo, ("do", [undo], True)], True), ("do", [undo, undo, ("do", [undo, ()], True)], True)
+        self.refused_at(3, mill, [undo, good, undo, bad])
+        # What stands in the list itself, behind a do that's a deed.
+        self.refused_at(1, mill, [("do", [undo], True), ("go", 0)])
+        self.refused_at(1, mill, [undo, ("go", 65), ("do", [3], True)])
+        self.refused_at(2, mill, [("do", [undo, ("do", [undo, undo, undo], True)], True), undo, 7])
+        # A do that's none itself, whatever is in it.
+        self.refused_at(2, mill, [undo, undo, ("do", [("go", 0)], 1)])
+        self.refused_at(1, mill, [undo, ("do", [undo, ("do", [5], 1)], True)])
+        self.refused_at(1, mill, [undo, ("do", [undo, undo, undo, ("do", (undo,), True)], True)])
         # Ahead of all: of what would be refused, too.
-        self.refused(BadDeed, mill, lambda: mill.do([("drop", "q"), ("go", 1), ("gone", 1)], whole=False), number=2)
-        self.assertEqual(mill.log(), [])
+        self.refused_at(2, mill, [("drop", "q"), ("go", 1), ("gone", 1)])
+        self.refused_at(2, mill, [("drop", "q"), ("go", 64), ("do", [("drop", "q"), ("do", [("gone", 1)], True)], True)])
+
+    def test_bad_deeds_anywhere(self):
+        dice = random.Random(20)
+        mill = self.fed(ACC, x=[1, 2, 3])
+
+        def row(deep):
+            return [("do", row(deep - 1), True) if deep and dice.random() < 0.5 else ("undo",) for _ in range(dice.randint(1, 4))]
+
+        def spoilt(deeds):
+            """The row with one of its deeds, however far within, exchanged for what is none; and its place."""
+            at = dice.randrange(len(deeds))
+            word, *things = deeds[at]
+            if word == "do" and dice.random() < 0.8:
+                worse = (word, spoilt(things[0])[0], things[1])
+            else:
+                worse = dice.choice([None, 3, (), ("go", 0), ("gone",), ["undo"], ("do", [], 1), ("do", ("undo",), True)])
+            return deeds[:at] + [worse] + deeds[at + 1:], at
+
+        for _ in range(300):
+            once, at = spoilt(row(2))
+            self.refused_at(at, mill, once)
+            more, later = row(2), row(2)
+            self.refused_at(len(more) + at, mill, more + once + spoilt(later)[0])
 
     def test_lists_of_deeds_are_the_askers_own(self):
         mill = Mill(ACC)
